@@ -1,0 +1,1 @@
+"""Land and ponds on a grid, and walks on the land."""
