@@ -1,6 +1,6 @@
 """What grids and cells are, and the refusal of what is none."""
 
-from moorwalk.errors import BadCell, BadGrid
+from moorwalk.errors import BadCell, BadGrid, NoLand
 
 LAND = "#"
 WATER = "."
@@ -37,6 +37,13 @@ def check_cell(grid, cell):
         raise BadCell("the cell lies outside the grid")
 
 
+def check_land(grid, cell):
+    """Refuse what is no cell of this grid, then a cell of water."""
+    check_cell(grid, cell)
+    if not is_land(grid, cell):
+        raise NoLand("the cell is water")
+
+
 def is_number(thing):
     """Tell whether it is a whole number; True and False are none."""
     return isinstance(thing, int) and not isinstance(thing, bool)
@@ -46,3 +53,14 @@ def lies_in(grid, cell):
     """Tell whether a pair of whole numbers is a cell of the grid."""
     row, column = cell
     return 0 <= row < len(grid) and 0 <= column < len(grid[0])
+
+
+def has_sign(grid, cell, sign):
+    """Tell whether it is a cell of the grid and of this sign."""
+    row, column = cell
+    return lies_in(grid, cell) and grid[row][column] == sign
+
+
+def is_land(grid, cell):
+    """Tell whether it is a land cell of the grid."""
+    return has_sign(grid, cell, LAND)

@@ -1,6 +1,6 @@
 """Pieces of land, ponds and outer water, and which of them lies in which."""
 
-from moorwalk.checks import LAND, WATER, check_grid, lies_in
+from moorwalk.checks import LAND, WATER, check_grid, has_sign
 from moorwalk.grids import cells_with
 
 BESIDE = ((-1, 0), (0, -1), (0, 1), (1, 0))
@@ -64,12 +64,6 @@ def reached(grid, first, steps):
                 seen.add(cell)
                 waiting.append(cell)
     return sorted(seen)
-
-
-def has_sign(grid, cell, sign):
-    """Tell whether it is a cell of the grid and of this sign."""
-    row, column = cell
-    return lies_in(grid, cell) and grid[row][column] == sign
 
 
 def leads_out(grid, cells):

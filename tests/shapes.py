@@ -16,19 +16,74 @@ def small_grids():
         yield from grids_of(rows, columns)
 
 
+def mixed_numbers(state):
+    """Numbers without an end, the same ones each time for one state."""
+    while True:
+        state = (state * 6364136223846793005 + 1442695040888963407) & (2 ** 64 - 1)
+        yield state >> 33
+
+
 def mixed_grids(many):
     """As many grids of changing sizes up to 16 by 16, the same ones each time."""
-    state = 7
+    numbers = mixed_numbers(7)
     for at in range(many):
-        drawn = []
-        for _ in range(3 + 256):
-            state = (state * 6364136223846793005 + 1442695040888963407) & (2 ** 64 - 1)
-            drawn.append(state >> 33)
+        drawn = list(itertools.islice(numbers, 3 + 256))
         rows = 16 if at < 4 else 1 + drawn[0] % 16
         columns = 16 if at < 4 else 1 + drawn[1] % 16
         dense = 2 + drawn[2] % 7
         signs = ["#" if one % 10 < dense else "." for one in drawn[3:]]
         yield ["".join(signs[row * 16:row * 16 + columns]) for row in range(rows)]
+
+
+def rings():
+    """A grid of 16 by 16 of four rings of land within one another, a pond in each."""
+    grid = []
+    for row in range(16):
+        depths = [min(row, column, 15 - row, 15 - column) for column in range(16)]
+        grid.append("".join("#" if depth % 2 == 0 else "." for depth in depths))
+    return grid
+
+
+LETTERS = {"N": (-1, 0), "E": (0, 1), "S": (1, 0), "W": (0, -1)}
+OPPOSITE = {"N": "S", "E": "W", "S": "N", "W": "E"}
+
+
+def is_land_of(grid, cell):
+    """Whether it is a land cell, found without the program."""
+    row, column = cell
+    return 0 <= row < len(grid) and 0 <= column < len(grid[0]) and grid[row][column] == "#"
+
+
+def way_of(grid, begin, walk):
+    """The cells that a walk comes to, or None if it leads off the land."""
+    way = [begin]
+    for letter in walk:
+        down, right = LETTERS[letter]
+        way.append((way[-1][0] + down, way[-1][1] + right))
+    return way if all(is_land_of(grid, cell) for cell in way) else None
+
+
+def mixed_walks(many, longest=200):
+    """As many triples of a grid, a begin and a walk on it, the same ones each time."""
+    numbers = mixed_numbers(11)
+    for at, grid in enumerate(mixed_grids(many)):
+        cells = [
+            (row, column) for row in range(len(grid)) for column in range(len(grid[0]))
+            if grid[row][column] == "#"
+        ]
+        if not cells:
+            continue
+        begin = cells[next(numbers) % len(cells)]
+        length = longest if at % 3 == 0 else next(numbers) % (longest + 1)
+        walk = ""
+        cell = begin
+        while len(walk) < length:
+            free = [one for one in LETTERS if way_of(grid, cell, one)]
+            if not free:
+                break
+            walk += free[next(numbers) % len(free)]
+            cell = way_of(grid, cell, walk[-1])[1]
+        yield grid, begin, walk
 
 
 class Odd:
@@ -113,3 +168,81 @@ def wrong_cells():
         "far": (10 ** 50, 0),
         "far below 0": (0, -10 ** 50),
     }
+
+
+def wrong_letters():
+    """Things that are no texts of 0 to 200 letters of steps."""
+    return {
+        "None": None,
+        "True": True,
+        "False": False,
+        "number": 0,
+        "bytes": b"",
+        "bytes of letters": b"NESW",
+        "list": [],
+        "list of letters": ["N", "S"],
+        "tuple": ("E", "W"),
+        "empty tuple": (),
+        "dict": {"E": "W"},
+        "set": {"E"},
+        "object": Odd(),
+        "kind": str,
+        "lower": "ew",
+        "lower among others": "EWe",
+        "another letter": "X",
+        "another letter at last": "EWEWA",
+        "another letter first": "OEW",
+        "blank": "E W",
+        "blank alone": " ",
+        "line feed": "EW\n",
+        "digit": "1",
+        "signs of a grid": "#.",
+        "201 steps": "EW" * 100 + "E",
+        "202 steps": "EW" * 101,
+        "far too many steps": "EW" * 5000,
+        "201 wrong letters": "x" * 201,
+    }
+
+
+def wrong_begins():
+    """Cells of the grid ["##.", "###"] and things that are none, with the refusal's name."""
+    wrong = {name: (cell, "BadCell") for name, cell in wrong_cells().items()}
+    wrong["water"] = ((0, 2), "NoLand")
+    return wrong
+
+
+def wrong_moves():
+    """Things that are no moves at all, whatever the walk, if it has ten steps or more."""
+    wrong = {
+        "None": None,
+        "True": True,
+        "number": 0,
+        "text": "turn",
+        "text of three": "abc",
+        "list": ["turn", 0, ""],
+        "list of an add": ["add", 0, "E"],
+        "dict": {"turn": 0, "drop": 1, "add": 2},
+        "set": {"turn"},
+        "object": Odd(),
+        "empty": (),
+        "word alone": ("turn",),
+        "pair": ("drop", 0),
+        "four": ("drop", 0, "", ""),
+        "four of an add": ("add", 0, "E", "W"),
+        "back to front": ("", 0, "drop"),
+        "place first": (0, "drop", ""),
+    }
+    for word in ("Turn", "TURN", "turns", "", "push", "dro", "add ", None, 0, True, b"drop", ["add"], ("turn",)):
+        wrong[f"word {word!r}"] = (word, 0, "")
+        wrong[f"word {word!r} with a letter"] = (word, 0, "E")
+    for word, letter in (("turn", ""), ("drop", ""), ("add", "E")):
+        for place in (True, False, None, "0", "", b"0", [0], (0,), Odd(), {0: 0}):
+            wrong[f"{word} at {place!r}"] = (word, place, letter)
+        for place in (-1, -2, 201, 10 ** 60, -10 ** 60):
+            wrong[f"{word} at the place {place}"] = (word, place, letter)
+    for letter in ("", "e", "X", "EW", "NESW", " ", None, 0, True, b"E", ["E"], ("E",), Odd()):
+        wrong[f"add of {letter!r}"] = ("add", 0, letter)
+    for letter in ("E", "N", " ", "EW", "x", None, 0, False, b"", [], ()):
+        for word in ("turn", "drop"):
+            wrong[f"{word} with {letter!r}"] = (word, 0, letter)
+    return wrong

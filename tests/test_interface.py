@@ -20,6 +20,26 @@ FUNCTIONS = {
         "outer": ["grid"],
         "nest": ["grid"],
     },
+    "counting": {
+        "joins": ["grid"],
+        "blocks": ["grid"],
+        "balance": ["grid"],
+        "corners": ["grid"],
+        "stretches": ["grid"],
+        "touches": ["grid"],
+        "seam": ["one", "other"],
+    },
+    "changing": {
+        "change": ["grid", "cell"],
+        "simple": ["grid", "cell"],
+        "worn": ["grid"],
+    },
+    "walks": {
+        "cells_of": ["grid", "begin", "walk"],
+        "back": ["walk"],
+        "moved": ["grid", "begin", "walk", "move"],
+        "moves_of": ["grid", "begin", "walk"],
+    },
 }
 
 
