@@ -1,7 +1,7 @@
 """Walks on the land of a grid, and the moves that change them."""
 
 from moorwalk.checks import check_grid, check_land, is_land, is_number
-from moorwalk.errors import BadMove, BadWalk
+from moorwalk.errors import BadMove, BadWalk, NotRound
 
 STEPS = {"N": (-1, 0), "E": (0, 1), "S": (1, 0), "W": (0, -1)}
 OPPOSITES = {"N": "S", "E": "W", "S": "N", "W": "E"}
@@ -45,9 +45,20 @@ def stepped(cell, letter):
     return (row + down, column + right)
 
 
+def check_round(cells):
+    """Refuse a walk to these cells if it does not end at its begin."""
+    if cells[0] != cells[-1]:
+        raise NotRound("the walk does not end at its begin")
+
+
 def back(walk):
     """Tell the same steps the other way, from the last one on."""
     check_letters(walk)
+    return steps_back(walk)
+
+
+def steps_back(walk):
+    """Tell steps the other way, from the last one on, however many they are."""
     return "".join([OPPOSITES[letter] for letter in reversed(walk)])
 
 
@@ -112,3 +123,13 @@ def moves_of(grid, begin, walk):
         if word != "":
             told.append((word, place, ""))
     return told
+
+
+def do_move(letters, cells, word, place):
+    """Do a turn or a drop that can be done in the lists of letters and cells themselves."""
+    if word == "turn":
+        letters[place], letters[place + 1] = letters[place + 1], letters[place]
+        cells[place + 1] = stepped(cells[place], letters[place])
+    else:
+        del letters[place:place + 2]
+        del cells[place + 1:place + 3]

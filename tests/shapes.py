@@ -86,6 +86,92 @@ def mixed_walks(many, longest=200):
         yield grid, begin, walk
 
 
+# A pond; one with a cell that is not below its first one; two in a row; two in a column;
+# a pond in a piece in a pond; ponds around corners; a pond with land all about.
+POND_GRIDS = [
+    ["###", "#.#", "###"],
+    ["#####", "##..#", "#...#", "#####"],
+    ["#####", "#.#.#", "#####"],
+    ["###", "#.#", "###", "#.#", "###"],
+    ["#####", "#...#", "#.#.#", "#...#", "#####"],
+    ["#######", "#.....#", "#.###.#", "#.#.#.#", "#.###.#", "#.....#", "#######"],
+    ["######", "#.####", "##.#.#", "######", "#..#.#", "######"],
+    ["######", "#....#", "#.##.#", "#.#..#", "######", "##.###", "######"],
+    ["#####", "#####", "##.##", "#####", "#####"],
+    ["###.###", "#.#.#.#", "###.###", "..#....", "#####..", "#.#.#..", "#####.."],
+]
+
+
+def many_ponds():
+    """A grid of 16 by 16 with 49 ponds, as many as can be."""
+    return ["#" * 16 if row % 2 == 0 or row == 15 else "#." * 7 + "##" for row in range(16)]
+
+
+def nearly_all_land(many):
+    """As many grids of changing sizes up to 9 by 9, most of it land."""
+    numbers = mixed_numbers(23)
+    for _ in range(many):
+        rows, columns = 3 + next(numbers) % 7, 3 + next(numbers) % 7
+        dense = 6 + next(numbers) % 3
+        yield [
+            "".join("#" if next(numbers) % 10 < dense else "." for _ in range(columns))
+            for _ in range(rows)
+        ]
+
+
+def grids_with_ponds(many):
+    """The grids above, and as many mixed ones."""
+    yield from POND_GRIDS
+    yield rings()
+    yield many_ponds()
+    yield from nearly_all_land(many)
+
+
+def land_cells(grid):
+    """The land cells, found without the program."""
+    return [
+        (row, column) for row in range(len(grid)) for column in range(len(grid[0]))
+        if grid[row][column] == "#"
+    ]
+
+
+def drawn_walk(numbers, grid, begin, length):
+    """A walk of so many steps, or of none if there is no way from the begin."""
+    walk, cell = "", begin
+    while len(walk) < length:
+        free = [one for one in LETTERS if way_of(grid, cell, one)]
+        # Going straight back is drawn less often, so that the walk comes farther.
+        onward = [one for one in free if walk and one != OPPOSITE[walk[-1]]]
+        if onward and next(numbers) % 8:
+            free = onward
+        if not free:
+            break
+        walk += free[next(numbers) % len(free)]
+        cell = way_of(grid, cell, walk[-1])[1]
+    return walk
+
+
+def way_to(grid, begin, end):
+    """A shortest walk between two cells of one piece, or None."""
+    ways, last = {begin: ""}, [begin]
+    while last and end not in ways:
+        later = []
+        for cell in last:
+            for letter in LETTERS:
+                step = way_of(grid, cell, letter)
+                if step and step[1] not in ways:
+                    ways[step[1]] = ways[cell] + letter
+                    later.append(step[1])
+        last = later
+    return ways.get(end)
+
+
+def drawn_round(numbers, grid, begin, length):
+    """A walk of so many steps and a shortest way home."""
+    walk = drawn_walk(numbers, grid, begin, length)
+    return walk + way_to(grid, way_of(grid, begin, walk)[-1], begin)
+
+
 class Odd:
     """A thing of no known kind."""
 
@@ -246,3 +332,105 @@ def wrong_moves():
         for word in ("turn", "drop"):
             wrong[f"{word} with {letter!r}"] = (word, 0, letter)
     return wrong
+
+
+def wrong_words():
+    """Things that are no words."""
+    return {
+        "None": None,
+        "True": True,
+        "number": 1,
+        "text": "1",
+        "bytes": b"\x01",
+        "tuple": (1, 2),
+        "empty tuple": (),
+        "dict": {1: 2},
+        "empty dict": {},
+        "set": {1},
+        "object": Odd(),
+        "kind": list,
+        "0": [0],
+        "0 at last": [1, 2, 0],
+        "0 first": [0, 1],
+        "True in it": [True],
+        "False in it": [1, False],
+        "True at last": [1, 1, True],
+        "True next to 1 below 0": [-1, True],
+        "text in it": ["1"],
+        "None in it": [1, None],
+        "bytes in it": [b"1"],
+        "list in it": [[1]],
+        "tuple in it": [1, (2,)],
+        "object in it": [Odd()],
+        "opposites": [1, -1],
+        "opposites the other way": [-2, 2],
+        "opposites at last": [1, 1, 2, -2],
+        "opposites first": [3, -3, 1],
+        "opposites in the middle": [1, 2, -2, 1],
+        "2001 numbers": [1] * 2001,
+        "far too many numbers": [1, 2] * 5000,
+    }
+
+
+def wrong_counts():
+    """Things that are no counts of ponds."""
+    return {
+        "None": None,
+        "True": True,
+        "False": False,
+        "text": "1",
+        "bytes": b"1",
+        "list": [1],
+        "tuple": (1,),
+        "dict": {},
+        "object": Odd(),
+        "below 0": -1,
+        "65": 65,
+        "far": 10 ** 40,
+        "far below 0": -10 ** 40,
+    }
+
+
+def wrong_sheets():
+    """Things that are no counts of sheets."""
+    wrong = wrong_counts()
+    wrong["65"] = 4002
+    wrong["0"] = 0
+    return wrong
+
+
+def wrong_turnings():
+    """Things that are no turnings of three sheets for one pond."""
+    inside_itself = []
+    inside_itself.append(inside_itself)
+    wrong = {
+        "None": None,
+        "True": True,
+        "number": 0,
+        "text": "012",
+        "tuple": ([0, 1, 2],),
+        "dict": {0: [0, 1, 2]},
+        "set": {0, 1, 2},
+        "object": Odd(),
+        "none": [],
+        "two": [[0, 1, 2], [0, 1, 2]],
+        "sheets alone": [0, 1, 2],
+        "itself": inside_itself,
+    }
+    for turning in (
+        None, True, 0, "012", b"012", (0, 1, 2), {0: 0, 1: 1, 2: 2}, {0, 1, 2}, Odd(),
+        [], [0], [0, 1], [0, 1, 2, 3], [0, 1, 2, 0], [0, 0, 1], [0, 1, 1], [2, 2, 2], [1, 2, 3],
+        [-1, 0, 1], [0, 1, -1], [0, 1, 3], [0, 1, 10 ** 30], [False, 1, 2], [0, True, 2],
+        [True, False, 2], ["0", "1", "2"], [0, 1, "2"], [0, 1, None], [0, 1, [2]], [0, 1, (2,)],
+        [0, 1, b"2"], [0, 1, Odd()], [[0, 1, 2]],
+    ):
+        wrong[f"turning {turning!r}"] = [turning]
+    return wrong
+
+
+def wrong_sheet():
+    """Things that are none of three sheets."""
+    return {
+        "None": None, "True": True, "False": False, "text": "0", "bytes": b"0", "list": [0],
+        "tuple": (0,), "dict": {}, "object": Odd(), "below": -1, "behind": 3, "far": 10 ** 30,
+    }

@@ -175,6 +175,17 @@ class LanguageTest(unittest.TestCase):
                     self.assertEqual(node.decorator_list, [], f"L4 {name}:{node.lineno}")
                     self.assertEqual(node.args.posonlyargs, [], f"L4 {name}:{node.lineno}")
 
+    def test_methods_and_attributes(self):
+        methods, attributes = set(), set()
+        for _, tree in trees():
+            for node in ast.walk(tree):
+                if isinstance(node, ast.ClassDef):
+                    methods |= {one.name for one in node.body if isinstance(one, ast.FunctionDef)}
+                elif isinstance(node, ast.Attribute) and isinstance(node.ctx, ast.Store):
+                    attributes.add(node.attr)
+        self.none_found("L18", sorted(methods & attributes))
+        self.none_found("L26", sorted((methods | attributes) & METHODS))
+
     def test_size(self):
         for name, text in sources():
             rows = text.split("\n")

@@ -2,6 +2,7 @@
 
 import unittest
 
+from oracles import after
 from refusals import MoorTest
 from shapes import (
     LETTERS, OPPOSITE, mixed_walks, way_of, wrong_begins, wrong_grids, wrong_letters, wrong_moves,
@@ -15,23 +16,6 @@ BLOCK = ["##", "##"]
 RING = ["###", "#.#", "###"]
 BENT = ["##.", "###"]
 ALL_LAND = ["#" * 16] * 16
-
-
-def after(walk, move):
-    """The text that the move makes of the walk, or None, the land left aside."""
-    word, place, letter = move
-    two = walk[place:place + 2] if place >= 0 else ""
-    if word == "add":
-        if not 0 <= place <= len(walk) or len(walk) > 198:
-            return None
-        return walk[:place] + letter + OPPOSITE[letter] + walk[place:]
-    if len(two) < 2:
-        return None
-    if word == "drop":
-        return walk[:place] + walk[place + 2:] if two in ("NS", "SN", "EW", "WE") else None
-    if (two[0] in "NS") == (two[1] in "NS"):
-        return None
-    return walk[:place] + two[::-1] + walk[place + 2:]
 
 
 def moves_at(place):
